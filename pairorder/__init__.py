@@ -1,0 +1,1 @@
+"""Pairorder: serving wishes from stocks by one fixed order of pairs."""
