@@ -14,7 +14,24 @@ INTERFACE = {
                   "InvalidCall", "InvalidText", "NotRight", "NoOrder", "NoFit", "LimitExceeded"],
     "wholes.py": ["is_integer", "is_between"],
     "kinds.py": ["is_kind", "suits"],
+    "tables.py": ["Table"],
+    "amounts.py": ["Amounts"],
+    "orders.py": ["Order"],
 }
+METHODS = {
+    "Table": "__init__ __getitem__ __contains__ __len__ __eq__ __add__ __mul__ __rmul__ has_cell pairs stocks wishes rows "
+             "shifted with_price without turned filled",
+    "Amounts": "__init__ __eq__ __add__ __mul__ __rmul__ stocks wishes over fits_size zeros",
+    "Order": "__init__ __getitem__ __len__ __contains__ __eq__ __lt__ __le__ __gt__ __ge__ place exchanged moved turned "
+             "pairs",
+}
+# The methods of builtin values that the language has (L25, its first list), but those that modify sets.
+BUILTIN_METHODS = set(
+    "append clear copy count endswith extend find get index insert isalnum isalpha isdigit islower isspace isupper items "
+    "join keys ljust lower lstrip partition pop remove replace reverse rfind rjust rpartition rsplit rstrip setdefault "
+    "split splitlines startswith strip update upper values zfill bit_length".split())
+OPERATORS = set(
+    "__eq__ __len__ __lt__ __le__ __gt__ __ge__ __add__ __mul__ __rmul__ __contains__ __getitem__ __iter__".split())
 BUILTINS = set(
     "len range enumerate zip min max sum abs sorted reversed int str bool bytes list tuple dict set isinstance ord "
     "repr any all divmod iter next super property staticmethod classmethod Exception ValueError TypeError KeyError "
@@ -51,6 +68,16 @@ def names_in(tree):
                 yield name
 
 
+def classes(trees):
+    """Every class of the package."""
+    return [node for tree in trees.values() for node in tree.body if isinstance(node, ast.ClassDef)]
+
+
+def methods_of(found):
+    """The methods of a class, by their names."""
+    return {node.name: node for node in found.body if isinstance(node, ast.FunctionDef)}
+
+
 class Rules(unittest.TestCase):
     def setUp(self):
         self.sources = sources()
@@ -61,6 +88,47 @@ class Rules(unittest.TestCase):
             body = self.trees[name].body
             found = [node.name for node in body if isinstance(node, (ast.FunctionDef, ast.ClassDef))]
             self.assertEqual([entry for entry in listed if entry not in found], [], name)
+
+    def test_the_methods_of_the_interface_stand_in_their_classes(self):
+        found = {node.name: methods_of(node) for node in classes(self.trees)}
+        for name, listed in METHODS.items():
+            self.assertEqual([entry for entry in listed.split() if entry not in found[name]], [], name)
+
+    def test_no_name_is_a_method_and_an_attribute(self):
+        methods = {name for found in classes(self.trees) for name in methods_of(found)}
+        assigned = {node.attr for tree in self.trees.values() for node in ast.walk(tree)
+                    if isinstance(node, ast.Attribute) and isinstance(node.ctx, ast.Store)}
+        self.assertEqual(sorted(methods & assigned), [])
+        self.assertEqual(sorted(assigned & BUILTIN_METHODS), [])
+
+    def test_every_method_that_is_called_is_known(self):
+        known = {name for found in classes(self.trees) for name in methods_of(found)} | BUILTIN_METHODS
+        for name, tree in self.trees.items():
+            for node in ast.walk(tree):
+                if isinstance(node, ast.Call) and isinstance(node.func, ast.Attribute):
+                    self.assertIn(node.func.attr, known, (name, node.lineno))
+
+    def test_a_class_with_an_index_cannot_be_iterated_over(self):
+        for found in classes(self.trees):
+            if "__getitem__" in methods_of(found):
+                self.assertIsInstance(methods_of(found)["__iter__"].body[0], ast.Raise, found.name)
+
+    def test_what_orders_and_equality_do_to_sorting_and_summing(self):
+        for name, tree in self.trees.items():
+            for node in ast.walk(tree):
+                if isinstance(node, ast.Call) and isinstance(node.func, ast.Name):
+                    place = (name, node.lineno)
+                    if node.func.id in ("any", "all", "sum", "min", "max", "sorted"):
+                        self.assertNotIsInstance(node.args[0], ast.GeneratorExp, place)
+                    # With classes that compare, these take what is plainly numbers or strings; so they are not used.
+                    self.assertNotIn(node.func.id, ("min", "max", "sorted"), place)
+
+    def test_operators_change_nothing(self):
+        for found in classes(self.trees):
+            for name, method in methods_of(found).items():
+                if name in OPERATORS:
+                    for node in ast.walk(method):
+                        self.assertNotIsInstance(node, (ast.Assign, ast.AugAssign, ast.Delete), (found.name, name))
 
     def test_files(self):
         self.assertIn("__init__.py", self.sources)
