@@ -10,10 +10,15 @@ def is_kind(value):
     return isinstance(value, str) and value in KINDS
 
 
-def suits(amounts, *, kind="even"):
-    """Whether the amounts are of the kind."""
+def check_kind(kind):
+    """Refuse what is not a kind."""
     if not is_kind(kind):
         raise InvalidBound("kind")
+
+
+def suits(amounts, *, kind="even"):
+    """Whether the amounts are of the kind."""
+    check_kind(kind)
     excess = amounts.over()
     if kind == "even":
         return excess == 0

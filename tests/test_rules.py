@@ -17,6 +17,10 @@ INTERFACE = {
     "tables.py": ["Table"],
     "amounts.py": ["Amounts"],
     "orders.py": ["Order"],
+    "serving.py": ["Server", "Serving", "serving_of", "is_serving"],
+    "certificates.py": ["fits", "shortage", "is_shortage", "cheapest", "are_worths", "least_cost"],
+    "right.py": ["faults", "first_fault", "is_right", "is_fault", "amounts_of", "shown"],
+    "nexts.py": ["may_stand", "bar_of", "stuck", "is_stuck", "has_order", "least_order"],
 }
 METHODS = {
     "Table": "__init__ __getitem__ __contains__ __len__ __eq__ __add__ __mul__ __rmul__ has_cell pairs stocks wishes rows "
@@ -24,6 +28,8 @@ METHODS = {
     "Amounts": "__init__ __eq__ __add__ __mul__ __rmul__ stocks wishes over fits_size zeros",
     "Order": "__init__ __getitem__ __len__ __contains__ __eq__ __lt__ __le__ __gt__ __ge__ place exchanged moved turned "
              "pairs",
+    "Server": "__init__ __call__ steps",
+    "Serving": "__getitem__ __eq__ moved cost total left_stocks left_wishes is_full amounts",
 }
 # The methods of builtin values that the language has (L25, its first list), but those that modify sets.
 BUILTIN_METHODS = set(
@@ -187,6 +193,29 @@ class Rules(unittest.TestCase):
             given |= {node.arg for node in ast.walk(tree) if isinstance(node, ast.arg)}
             given |= set(defined(tree))
             self.assertEqual(sorted(given & set(dir(builtins))), [], name)
+
+    def test_no_name_inside_has_the_name_of_a_class_or_an_import_of_its_file(self):
+        for name, tree in self.trees.items():
+            barred = {alias.name for node in tree.body if isinstance(node, ast.ImportFrom) for alias in node.names}
+            barred |= {node.name for node in tree.body if isinstance(node, ast.ClassDef)}
+            given = {node.id for node in ast.walk(tree) if isinstance(node, ast.Name) and isinstance(node.ctx, ast.Store)}
+            given |= {node.arg for node in ast.walk(tree) if isinstance(node, ast.arg)}
+            self.assertEqual(sorted(given & barred), [], name)
+
+    def test_only_what_is_imported_is_used_and_all_of_it(self):
+        for name, tree in self.trees.items():
+            imported = [alias.name for node in tree.body if isinstance(node, ast.ImportFrom) for alias in node.names]
+            used = {node.id for node in ast.walk(tree) if isinstance(node, ast.Name)}
+            self.assertEqual([entry for entry in imported if entry not in used], [], name)
+            self.assertEqual(len(imported), len(set(imported)), name)
+
+    def test_no_two_files_import_from_each_other(self):
+        below = {name: {node.module.split(".")[1] + ".py" for node in tree.body if isinstance(node, ast.ImportFrom)}
+                 for name, tree in self.trees.items()}
+        while below:
+            free = [name for name, others in below.items() if not others & set(below)]
+            self.assertNotEqual(free, [], below)
+            below = {name: others for name, others in below.items() if name not in free}
 
     def test_statements_and_expressions_that_are_not_used(self):
         barred = (ast.Global, ast.AsyncFunctionDef, ast.AsyncFor, ast.AsyncWith, ast.Await, ast.Div)
