@@ -15,7 +15,7 @@ def check_line_amounts(word, numbers):
 
 def check_size(table, amounts):
     """Refuse amounts that do not have as many stocks and as many wishes as the table."""
-    if not amounts.fits_size(table):
+    if not isinstance(amounts, Amounts) or not amounts.fits_size(table):
         raise InvalidAmounts("size", -1)
 
 

@@ -1,16 +1,9 @@
 """A cheapest way to move all that some lines give to lines that take at least as much, by the way of point 6.5."""
 
+from pairorder.wholes import least
+
 # The way by which a giver is reached that has something left: by no taker.
 START = -1
-
-
-def least(numbers):
-    """The least one of some integers."""
-    found = numbers[0]
-    for number in numbers:
-        if number < found:
-            found = number
-    return found
 
 
 def least_price(row):

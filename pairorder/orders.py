@@ -22,8 +22,10 @@ def check_pairs(pairs):
 
 
 def check_order(table, order):
-    """Refuse an order whose pairs are not exactly the pairs of the table."""
-    if len(order) != len(table) or not all([pair in order for pair in table.pairs()]):
+    """Refuse an order whose pairs are not exactly the pairs of the table, or of another order in its place."""
+    if not isinstance(order, Order) or len(order) != len(table):
+        raise InvalidOrder(-1)
+    if not all([pair in order for pair in table.pairs()]):
         raise InvalidOrder(-1)
 
 

@@ -1,4 +1,4 @@
-"""What counts as an integer, and as a tuple or a list of integers."""
+"""What counts as an integer, and as a tuple or a list of integers; and the least one of some."""
 
 # No table and no amounts have more stocks, or more wishes.
 MOST_LINES = 8
@@ -29,3 +29,12 @@ def are_lines(value, many):
     if not isinstance(value, list) or not all([is_between(entry, 0, many - 1) for entry in value]):
         return False
     return all([value[k] < value[k + 1] for k in range(len(value) - 1)])
+
+
+def least(numbers):
+    """The least one of some integers."""
+    found = numbers[0]
+    for number in numbers:
+        if number < found:
+            found = number
+    return found

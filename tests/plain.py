@@ -101,8 +101,36 @@ def plain_faults(rows, pairs, kind):
     return found
 
 
+def right_orders(rows, kind):
+    """The right orders, ascending, as lists."""
+    return [list(order) for order in itertools.permutations(pairs_of(rows)) if not plain_faults(rows, list(order), kind)]
+
+
+def disagreements(one, other):
+    """The sets of two pairs on which two orders disagree, each as an ascending tuple, in ascending order."""
+    return [(p, q) for p, q in itertools.combinations(sorted(one), 2)
+            if (one.index(p) < one.index(q)) != (other.index(p) < other.index(q))]
+
+
+def exchanged(pairs, k):
+    """The order in which the pairs at the places k and k + 1 have changed places."""
+    return pairs[:k] + [pairs[k + 1], pairs[k]] + pairs[k + 2:]
+
+
 def may_follow(rows, placed, pair, kind):
     return not faults_behind(rows, pair, kind, lambda other: other not in placed)
+
+
+def is_orderable(rows, kind):
+    """Whether there is a right order: any pair that may stand next is taken, until there is none (point 8.4)."""
+    left = pairs_of(rows)
+    while left:
+        placed = [pair for pair in pairs_of(rows) if pair not in left]
+        free = [pair for pair in left if may_follow(rows, placed, pair, kind)]
+        if not free:
+            return False
+        left.remove(free[-1])
+    return True
 
 
 def stuck_sets(rows, kind):

@@ -10,10 +10,9 @@ from pairorder.nexts import bar_of, has_order, is_stuck, least_order, may_stand,
 from pairorder.orders import Order
 from pairorder.right import is_right
 from pairorder.tables import Table
-from plain import faults_behind, may_follow, pairs_of, plain_faults, small_tables, some_rows, stuck_sets
-from values import GREAT, NOT_LISTS, NOT_TWOS, Checks
+from plain import faults_behind, may_follow, pairs_of, right_orders, small_tables, some_rows, stuck_sets
+from values import GREAT, NOT_LISTS, NOT_TWOS, WRONG_KINDS, Checks
 
-WRONG_KINDS = [None, True, 0, "", "Even", "odd", "stocks", b"any", [], ["any"], ("even",), {"any": 1}, {"even"}]
 TABLE = Table([[4, 1], [2, 3]])
 STUCK_ROWS = [[0, 0, None], [None, 0, 0], [0, None, 0]]
 STUCK = [(0, 0), (0, 1), (1, 1), (1, 2), (2, 0), (2, 2)]
@@ -23,12 +22,6 @@ def some_placed(rows, seed, count=8):
     """Some lists of placed pairs, in any sequence: none, all, and others by chance."""
     chance, pairs = random.Random(seed), pairs_of(rows)
     return [[], pairs] + [chance.sample(pairs, chance.randint(0, len(pairs))) for _ in range(count)]
-
-
-def right_orders(rows, kind):
-    """The right orders, ascending, as lists."""
-    return [list(order) for order in itertools.permutations(pairs_of(rows))
-            if not plain_faults(rows, list(order), kind)]
 
 
 class MayStand(Checks):

@@ -14,9 +14,8 @@ from pairorder.right import amounts_of, faults, first_fault, is_fault, is_right,
 from pairorder.serving import Server, Serving
 from pairorder.tables import Table
 from plain import holds, is_right_for, pairs_of, plain_faults, small_tables, some_rows
-from values import GREAT, NOT_TWOS, Checks
+from values import GREAT, NOT_TWOS, WRONG_KINDS, Checks
 
-WRONG_KINDS = [None, True, 0, "", "Even", "odd", "stocks", b"any", [], ["any"], ("even",), {"any": 1}, {"even"}]
 TURNED = {"even": "even", "stock": "wish", "wish": "stock", "any": "any"}
 
 

@@ -21,6 +21,9 @@ INTERFACE = {
     "certificates.py": ["fits", "shortage", "is_shortage", "cheapest", "are_worths", "least_cost"],
     "right.py": ["faults", "first_fault", "is_right", "is_fault", "amounts_of", "shown"],
     "nexts.py": ["may_stand", "bar_of", "stuck", "is_stuck", "has_order", "least_order"],
+    "counting.py": ["count", "order_at", "number_of"],
+    "leading.py": ["unlike", "led", "is_led"],
+    "alike.py": ["parted", "parting", "normal"],
 }
 METHODS = {
     "Table": "__init__ __getitem__ __contains__ __len__ __eq__ __add__ __mul__ __rmul__ has_cell pairs stocks wishes rows "

@@ -21,6 +21,10 @@ NOT_TWOS = [
     {0: 0}, {(0, 0): 0}, set(), {0}, {(0, 0)}, frozenset([0]), range(2), slice(0, 1), slice(None), float("nan"), 1j,
     tuple, ..., [[[[[[[0]]]]]]], (([([(0, [0])], 0)], 0), 0),
 ]
+WRONG_KINDS = [
+    None, True, False, 0, 3, "", "Even", "even ", "odd", "stocks", b"any", [], ["any"], (), ("even",), {}, {"any": 1},
+    {"even"}, str, ...,
+]
 
 
 class Checks(unittest.TestCase):
