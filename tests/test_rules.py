@@ -24,6 +24,10 @@ INTERFACE = {
     "counting.py": ["count", "order_at", "number_of"],
     "leading.py": ["unlike", "led", "is_led"],
     "alike.py": ["parted", "parting", "normal"],
+    "ranges.py": ["slack", "steady", "price_range"],
+    "lots.py": ["leave_outs", "is_monge", "by_rows", "by_columns", "by_price"],
+    "desk.py": ["Desk"],
+    "texts.py": ["show_table", "show_order", "show_amounts", "read_table", "read_order", "read_amounts"],
 }
 METHODS = {
     "Table": "__init__ __getitem__ __contains__ __len__ __eq__ __add__ __mul__ __rmul__ has_cell pairs stocks wishes rows "
@@ -33,6 +37,8 @@ METHODS = {
              "pairs",
     "Server": "__init__ __call__ steps",
     "Serving": "__getitem__ __eq__ moved cost total left_stocks left_wishes is_full amounts",
+    "Desk": "__init__ __getitem__ __setitem__ __iadd__ __isub__ bar set_order set_kind kind table amounts order "
+            "first_fault serving cost stuck_set log undo redo trial",
 }
 # The methods of builtin values that the language has (L25, its first list), but those that modify sets.
 BUILTIN_METHODS = set(
@@ -138,6 +144,40 @@ class Rules(unittest.TestCase):
                 if name in OPERATORS:
                     for node in ast.walk(method):
                         self.assertNotIsInstance(node, (ast.Assign, ast.AugAssign, ast.Delete), (found.name, name))
+
+    def test_no_sign_assigns_and_computes(self):
+        # Beside a desk's += and -=, the language has them at few places (L5 Operators); so they are not used.
+        for name, tree in self.trees.items():
+            for node in ast.walk(tree):
+                self.assertNotIsInstance(node, ast.AugAssign, name)
+
+    def test_a_finally_only_sets_names_and_attributes(self):
+        for name, tree in self.trees.items():
+            for node in ast.walk(tree):
+                for row in node.finalbody if isinstance(node, ast.Try) else []:
+                    self.assertIsInstance(row, ast.Assign, name)
+                    for part in ast.walk(row):
+                        self.assertIsInstance(part, (ast.Assign, ast.Tuple, ast.Name, ast.Attribute, ast.expr_context), name)
+
+    def test_errors_are_caught_by_name_and_raised_where_they_are_made(self):
+        own = set(defined(self.trees["errors.py"]))
+        for name, tree in self.trees.items():
+            for node in ast.walk(tree):
+                if isinstance(node, ast.ExceptHandler):
+                    self.assertIn(node.type.id, own, name)
+                if isinstance(node, ast.Raise):
+                    self.assertIsInstance(node.exc, ast.Call, name)
+                    self.assertIn(node.exc.func.id, own | {"TypeError"}, name)
+
+    def test_a_property_is_no_method_and_no_attribute(self):
+        for found in classes(self.trees):
+            for method in methods_of(found).values():
+                for decorator in method.decorator_list:
+                    self.assertIn(decorator.id, ("property", "classmethod"), (found.name, method.name))
+                    if decorator.id == "property":
+                        others = [other for other in classes(self.trees) if other is not found and method.name in methods_of(other)]
+                        self.assertEqual(others, [])
+                        self.assertIsInstance(method.body[-1], ast.Return)
 
     def test_files(self):
         self.assertIn("__init__.py", self.sources)
